@@ -1,0 +1,1 @@
+"""Sensors that err: where the truth can be when a few sensors may lie."""
