@@ -5,6 +5,8 @@ from lyingsensors.sensors import answers
 NUMBERS = {
     "begin": 0, "report": 1, "tick": 2, "places": 3, "can": 4,
     "witness": 5, "check": 6, "liars": 7, "fewest": 8, "sets": 9,
+    "past": 10, "ahead": 11, "sure": 12, "leaves": 13, "suppose": 14,
+    "trusted": 15, "hull": 16, "reports": 17, "widths": 18, "unsay": 19,
 }
 
 

@@ -2,6 +2,18 @@
 
 from itertools import combinations, product
 
+# Up to so many ticks all courses are gone through; from there on ahead and leaves go step by step.
+MOST_TICKS = 4
+
+
+def told_pieces(numbers):
+    firsts = sorted(v for v in numbers if v - 1 not in numbers)
+    lasts = sorted(v for v in numbers if v + 1 not in numbers)
+    told = [0, len(firsts)]
+    for first, end in zip(firsts, lasts):
+        told += [first, end]
+    return told
+
 
 class Plain:
     def __init__(self):
@@ -52,21 +64,43 @@ class Plain:
     def ends(self, told):
         return {course[-1] for course in self.courses(told, self.now + 1)}
 
-    def truths(self):
+    def truths_at(self, tick, ticks):
+        """What the truth can be at a tick, by the reports of so many ticks."""
         numbers = set()
         for size in range(self.f + 1):
             for told in self.sets_of(size):
-                numbers |= self.ends(told)
+                numbers |= {course[tick] for course in self.courses(told, ticks)}
+        return numbers
+
+    def truths(self):
+        return self.truths_at(self.now, self.now + 1)
+
+    def stepped(self, numbers):
+        return {
+            w for w in range(self.low, self.high + 1)
+            if any(v - self.down <= w <= v + self.up for v in numbers)}
+
+    def truths_ahead(self, k):
+        if self.now + 1 + k <= MOST_TICKS:
+            return self.truths_at(self.now + k, self.now + 1 + k)
+        numbers = self.truths()
+        for _ in range(k):
+            numbers = self.stepped(numbers)
         return numbers
 
     def can_be_liars(self):
         return [told for told in self.sets_of(self.f) if self.ends(told)]
 
-    def report(self, sensor, a, b):
+    def refusal(self, sensor, a, b):
         if sensor not in range(self.n) or a > b or max(abs(a), abs(b)) > 2 * 10 ** 9:
             return [-1]
         if (self.now, sensor) in self.reported:
             return [-3]
+        return None
+
+    def report(self, sensor, a, b):
+        if self.refusal(sensor, a, b):
+            return self.refusal(sensor, a, b)
         self.reported[self.now, sensor] = (a, b)
         return [0, len(self.can_be_liars())]
 
@@ -79,13 +113,7 @@ class Plain:
         return [0, self.now]
 
     def places(self):
-        numbers = self.truths()
-        firsts = sorted(v for v in numbers if v - 1 not in numbers)
-        lasts = sorted(v for v in numbers if v + 1 not in numbers)
-        told = [0, len(firsts)]
-        for first, end in zip(firsts, lasts):
-            told += [first, end]
-        return told
+        return told_pieces(self.truths())
 
     def can(self, v):
         return [0, int(v in self.truths())]
@@ -131,3 +159,73 @@ class Plain:
 
     def sets(self):
         return [0] + self.can_be_liars()
+
+    def past(self, tick):
+        if tick not in range(self.now + 1):
+            return [-1]
+        return told_pieces(self.truths_at(tick, self.now + 1))
+
+    def ahead(self, k):
+        if k not in range(1001):
+            return [-1]
+        return told_pieces(self.truths_ahead(k))
+
+    def sure(self, a, b):
+        if a > b:
+            return [-1]
+        if not self.can_be_liars():
+            return [-4]
+        held = {a <= v <= b for v in self.truths()}
+        return [0, {True: 1, False: 2}[held.pop()]] if len(held) == 1 else [0, 0]
+
+    def leaves(self, a, b):
+        if a > b:
+            return [-1]
+        if not self.can_be_liars():
+            return [-4]
+        numbers = self.truths()
+        for k in range(201):
+            if any(v < a or v > b for v in numbers):
+                return [0, 1, k]
+            numbers = self.stepped(numbers)
+        return [0, 0]
+
+    def suppose(self, sensor, a, b):
+        if self.refusal(sensor, a, b):
+            return self.refusal(sensor, a, b)
+        self.reported[self.now, sensor] = (a, b)
+        told = told_pieces(self.truths())
+        del self.reported[self.now, sensor]
+        return told
+
+    def trusted(self, sensor):
+        if sensor not in range(self.n):
+            return [-1]
+        if (self.now, sensor) not in self.reported:
+            return [-4]
+        a, b = self.reported[self.now, sensor]
+        return [0, int(all(a <= v <= b for v in self.truths()))]
+
+    def hull(self):
+        numbers = self.truths()
+        return [0, min(numbers), max(numbers)] if numbers else [-4]
+
+    def reports(self, tick):
+        if tick not in range(self.now + 1):
+            return [-1]
+        told = [0]
+        for (at, sensor), (a, b) in self.reported.items():
+            if at == tick:
+                told += [sensor, a, b]
+        return told
+
+    def widths(self):
+        return [0] + [len(self.truths_at(tick, tick + 1)) for tick in range(self.now + 1)]
+
+    def unsay(self, sensor):
+        if sensor not in range(self.n):
+            return [-1]
+        if (self.now, sensor) not in self.reported:
+            return [-4]
+        del self.reported[self.now, sensor]
+        return [0]

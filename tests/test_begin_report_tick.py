@@ -2,7 +2,7 @@
 
 import unittest
 
-from tests.lines import begin, last, run
+from tests.lines import NUMBERS, begin, last, run
 
 BIG = 10 ** 9
 HUGE = 10 ** 18
@@ -49,7 +49,11 @@ class NotBegunTest(unittest.TestCase):
         calls = [
             ("report", 0, 1, 2), ("report", -1, 2, 1), ("report", HUGE, HUGE, -HUGE), ("tick", 1), ("tick", 0),
             ("tick", 100), ("places",), ("can", 0), ("can", HUGE), ("witness", 0), ("check", 0, []),
-            ("check", -1, [1, 2, 3]), ("check", HUGE, [0] * 200), ("liars",), ("fewest",), ("sets",)]
+            ("check", -1, [1, 2, 3]), ("check", HUGE, [0] * 200), ("liars",), ("fewest",), ("sets",), ("past", 0),
+            ("past", -1), ("ahead", 0), ("ahead", 1001), ("sure", 1, 2), ("sure", 2, 1), ("leaves", 1, 2),
+            ("leaves", HUGE, -HUGE), ("suppose", 0, 1, 2), ("suppose", -1, 2, 1), ("trusted", 0), ("trusted", 9),
+            ("hull",), ("reports", 0), ("reports", 1), ("widths",), ("unsay", 0), ("unsay", -HUGE)]
+        self.assertEqual({call[0] for call in calls} | {"begin"}, set(NUMBERS))
         for call in calls:
             self.assertEqual(run(call, begin(), ("places",)), [[-7], [0], [0, 1, 0, 100]], call)
         self.assertEqual(run(*calls), [[-7]] * len(calls))

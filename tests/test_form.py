@@ -34,6 +34,11 @@ def nodes(kind):
     return [(name, node) for name, tree in trees() for node in ast.walk(tree) if isinstance(node, kind)]
 
 
+def called(node):
+    """The last name of what a call calls."""
+    return node.func.attr if isinstance(node.func, ast.Attribute) else getattr(node.func, "id", None)
+
+
 class FormTest(unittest.TestCase):
     def test_there_are_only_plain_files(self):
         names = [path.name for path in FOLDER.iterdir() if path.name != "__pycache__"]
@@ -90,6 +95,39 @@ class FormTest(unittest.TestCase):
         for name, node in nodes(ast.Call):
             if isinstance(node.func, ast.Attribute):
                 self.assertIn(node.func.attr, METHODS | own, (name, node.lineno))
+
+    def test_is_stands_beside_none_true_and_false_alone(self):
+        for name, node in nodes(ast.Compare):
+            for op, right in zip(node.ops, node.comparators):
+                if isinstance(op, (ast.Is, ast.IsNot)):
+                    self.assertIn(ast.unparse(right), ("None", "True", "False"), (name, node.lineno))
+
+    def test_what_is_walked_is_walked_on_the_spot(self):
+        walked = {"zip", "enumerate", "reversed", "range", "items", "keys", "values"}
+        takers = {"list", "tuple", "dict", "sorted", "sum", "any", "all", "enumerate", "zip", "min", "max"}
+        places = [node.iter for _, node in nodes((ast.For, ast.comprehension))]
+        places += [node.args[0] for _, node in nodes(ast.Call) if called(node) in takers and node.args]
+        spots = {(node.lineno, node.col_offset, ast.dump(node)) for node in places}
+        for name, node in nodes(ast.Call):
+            if called(node) in walked:
+                self.assertIn((node.lineno, node.col_offset, ast.dump(node)), spots, (name, node.lineno))
+
+    def test_sets_are_neither_kept_nor_walked(self):
+        self.assertEqual(nodes(ast.Set), [])
+        sorted_or_counted = [
+            ast.dump(node.args[0]) for _, node in nodes(ast.Call)
+            if called(node) in ("sorted", "len") and not node.keywords]
+        for name, node in nodes(ast.Call):
+            if called(node) in ("set", "frozenset"):
+                self.assertIn(ast.dump(node), sorted_or_counted, (name, node.lineno))
+
+    def test_locals_are_not_called_like_an_import_or_a_class(self):
+        for name, tree in trees():
+            taken = {node.name for node in ast.walk(tree) if isinstance(node, (ast.ClassDef, ast.alias))}
+            local = {node.arg for node in ast.walk(tree) if isinstance(node, ast.arg)}
+            local |= {
+                node.id for node in ast.walk(tree) if isinstance(node, ast.Name) and isinstance(node.ctx, ast.Store)}
+            self.assertEqual(taken & local, set(), name)
 
 
 if __name__ == "__main__":

@@ -8,7 +8,7 @@ from unittest import mock
 
 from lyingsensors.sensors import answers
 
-# begin, two reports, tick, places, can, witness, check, liars, fewest, sets, a refusal, begin, places
+# All twenty calls, each on a row of its own; then some refusals, and a room begun anew.
 CALLS = [
     0, 2, 1, 0, 100, 1, 2,
     1, 0, 50, 60,
@@ -21,9 +21,30 @@ CALLS = [
     7,
     8,
     9,
+    10, 0,
+    11, 1,
+    12, 0, 30,
+    13, 9, 62,
+    14, 0, 50, 55,
+    1, 0, 50, 55,
+    15, 0,
+    16,
+    17, 0,
+    18,
+    19, 0,
+    17, 1,
     1, 5, 0, 0,
+    10, 2,
+    11, 1001,
+    12, 2, 1,
+    13, 2, 1,
+    14, 0, 2, 1,
+    15, 0,
+    17, -1,
+    19, 0,
     0, 1, 0, 3, 4, 0, 0,
     3,
+    18,
 ]
 ANSWERS = [
     1, 0,
@@ -37,9 +58,30 @@ ANSWERS = [
     1, 0,
     3, 0, 1, 1,
     3, 0, 1, 2,
+    6, 0, 2, 10, 20, 50, 60,
+    6, 0, 2, 8, 24, 48, 64,
+    2, 0, 0,
+    3, 0, 1, 1,
+    6, 0, 2, 9, 22, 50, 55,
+    2, 0, 2,
+    2, 0, 0,
+    3, 0, 9, 55,
+    7, 0, 0, 50, 60, 1, 10, 20,
+    3, 0, 22, 20,
+    1, 0,
+    1, 0,
     1, -1,
+    1, -1,
+    1, -1,
+    1, -1,
+    1, -1,
+    1, -1,
+    1, -4,
+    1, -1,
+    1, -4,
     1, 0,
     4, 0, 1, 3, 4,
+    2, 0, 2,
 ]
 
 
@@ -71,6 +113,13 @@ class InterfaceTest(unittest.TestCase):
             answers([0, 1, 0, 0, 5, 0, 0, 6, 2, 3, 9, 9, 9, 6, 1, 0, 6, 0, 0, 6, 0, 1, 5]),
             [1, 0, 1, -1, 3, 0, 0, -1, 3, 0, 0, 0, 2, 0, 1])
 
+    def test_each_call_takes_just_its_own_numbers(self):
+        counts = [6, 3, 1, 0, 1, 1, 2, 0, 0, 0, 1, 1, 2, 2, 3, 1, 0, 1, 0, 1]
+        for call, count in enumerate(counts):
+            refused = [call] + [0] * count
+            told = [1, -1] if call == 0 else [1, -7]
+            self.assertEqual(answers(refused + refused + [16]), told + told + [1, -7], call)
+
     def test_all_are_whole_numbers_in_a_list(self):
         told = answers(list(CALLS))
         self.assertIs(type(told), list)
@@ -100,7 +149,8 @@ class InterfaceTest(unittest.TestCase):
         self.assertEqual(out.getvalue(), "")
 
     def test_calls_do_not_nest_deeply(self):
-        calls = [0, 9, 4, 0, 100, 1, 2, 2, 99, 5, 50, 6, 0, 200] + [5] * 200 + [3] * 390
+        calls = [0, 9, 4, 0, 100, 1, 2, 2, 99, 5, 50, 6, 0, 200] + [5] * 200
+        calls += [10, 0, 11, 1000, 13, 0, 100, 18, 1, 0, 5, 6, 14, 1, 5, 6, 19, 0, 17, 99] + [3] * 380
         depth = 0
         frame = sys._getframe()
         while frame is not None:
